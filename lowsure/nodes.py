@@ -147,6 +147,9 @@ class Pair(Node):
     SIGN = "+"
     LEVEL = 1
 
+    def _nodes(self):
+        return (self.one, self.other)
+
     def _words(self, inner):
         return [*placed(inner[0], self.LEVEL), self.SIGN, *placed(inner[1], self.LEVEL + 1)]
 
@@ -157,9 +160,6 @@ class Add(Pair):
     def __init__(self, one, other):
         self.one = one
         self.other = other
-
-    def _nodes(self):
-        return (self.one, self.other)
 
     def _made(self, inner):
         return Add(inner[0], inner[1])
@@ -174,9 +174,6 @@ class Subtract(Pair):
         self.one = one
         self.other = other
 
-    def _nodes(self):
-        return (self.one, self.other)
-
     def _made(self, inner):
         return Subtract(inner[0], inner[1])
 
@@ -190,9 +187,6 @@ class Multiply(Pair):
     def __init__(self, one, other):
         self.one = one
         self.other = other
-
-    def _nodes(self):
-        return (self.one, self.other)
 
     def _made(self, inner):
         return Multiply(inner[0], inner[1])

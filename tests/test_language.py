@@ -8,6 +8,8 @@ from pathlib import Path
 
 PACKAGE = Path(__file__).resolve().parent.parent / "lowsure"
 FILES = sorted(PACKAGE.rglob("*.py"))
+# Not the _ that an interactive interpreter, or a doctest, leaves there.
+BUILTINS = set(dir(builtins)) - {"_"}
 USED_BUILTINS = set("""len range enumerate zip min max sum abs sorted reversed int str bool list tuple dict set isinstance
     ord repr any all divmod Exception ValueError TypeError KeyError classmethod staticmethod property iter next
     NotImplemented super""".split())
@@ -137,12 +139,12 @@ class LanguageTest(unittest.TestCase):
                 if isinstance(node, ast.ExceptHandler):
                     caught = node.type.elts if isinstance(node.type, ast.Tuple) else [node.type]
                     for name in caught:
-                        self.assertNotIn(name.id, dir(builtins))
+                        self.assertNotIn(name.id, BUILTINS)
 
     def test_builtins(self):
         for path, tree in trees():
             names = {node.id for node in ast.walk(tree) if isinstance(node, ast.Name)}
-            self.assertLessEqual(names & set(dir(builtins)), USED_BUILTINS)
+            self.assertLessEqual(names & BUILTINS, USED_BUILTINS)
 
     def test_words(self):
         for path in FILES:
@@ -160,7 +162,7 @@ class LanguageTest(unittest.TestCase):
             for function in functions_of(tree):
                 names = bound_names(function)
                 self.assertEqual(set(names) & fixed, set())
-                self.assertEqual(set(names) & (set(dir(builtins)) - {"_"}), set())
+                self.assertEqual(set(names) & BUILTINS, set())
                 for name in names:
                     self.assertRegex(name, "^(_|_?[a-z][a-z0-9_]*)$")
 
@@ -170,7 +172,7 @@ class LanguageTest(unittest.TestCase):
                 methods = [row.name for row in made.body if isinstance(row, ast.FunctionDef)]
                 self.assertEqual(len(methods), len(set(methods)), made.name)
                 for name in methods:
-                    self.assertTrue(name in SPECIAL if name.startswith("__") else name not in dir(builtins), name)
+                    self.assertTrue(name in SPECIAL if name.startswith("__") else name not in BUILTINS, name)
                 for row in made.body:
                     if isinstance(row, ast.Assign):
                         self.assertIsInstance(row.value, ast.Constant, "class values are plain")

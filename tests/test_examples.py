@@ -1,0 +1,46 @@
+"""The examples of the document that the modules so far can answer, and those of README.md."""
+
+import doctest
+import unittest
+from pathlib import Path
+
+from lowsure.agreement import agree
+from lowsure.errors import InvalidText, NoTable
+from lowsure.library import Library
+from lowsure.nodetexts import read_node, show_node
+from lowsure.tables import Table, count_tables
+
+README = Path(__file__).resolve().parent.parent / "README.md"
+
+
+class ExamplesTest(unittest.TestCase):
+
+    def test_nodes(self):
+        self.assertEqual(show_node(read_node("( a * ( b + c ) ) + half ( half d )")), "a * ( b + c ) + half half d")
+        with self.assertRaises(InvalidText) as caught:
+            read_node("a + ")
+        self.assertEqual(caught.exception.at, 2)
+
+    def test_pieces(self):
+        library = Library.read("function sq x\ngive half ( x * x + x )\nfunction tri x\nlet a = half x\n"
+                               "give ( if x mod 2 is 0 then a * ( x + 1 ) else x * ( a + 1 ) )")
+        sq, tri = library.piece("sq"), library.piece("tri")
+        self.assertEqual(sq((5,), 8), 15)
+        self.assertEqual((sq.loss, tri.loss), ((1,), (1,)))
+        self.assertEqual(agree(sq, tri), (64, None))
+        cube = Library.read("function f x\ngive x ** 3 - x\nfunction zero x\ngive 0")
+        self.assertEqual(agree(cube.piece("f"), cube.piece("zero"), 8)[0], 1)
+
+    def test_tables(self):
+        self.assertEqual(Table((0,), 3, (0, 3, 2, 5))((5,)), 7)
+        with self.assertRaises(NoTable) as caught:
+            Table((0,), 3, (0, 3, 3, 5))
+        self.assertEqual(caught.exception.at, 2)
+        self.assertEqual(count_tables((0,), 3), 10)
+
+    def test_readme(self):
+        self.assertEqual(doctest.testfile(str(README), module_relative=False).failed, 0)
+
+
+if __name__ == "__main__":
+    unittest.main()

@@ -16,7 +16,7 @@ class Scope:
 
     def __init__(self, names, programs):
         self.places = {name: at for at, name in enumerate(names)}
-        self.wanted = [0 for _ in names]
+        self.wanted = [0] * len(names)
         self.programs = programs
 
     def place(self, name, bits):

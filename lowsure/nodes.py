@@ -21,7 +21,10 @@ def flat(node):
 
 def outline(node):
     """A list that two nodes share exactly if they are equal."""
-    return [(part.__class__.__name__, part._plain()) for part in flat(node)]
+    found = []
+    for part in flat(node):
+        found.append((part.__class__.__name__, part._plain()))
+    return found
 
 
 def words_of(node):

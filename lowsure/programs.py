@@ -67,7 +67,7 @@ class Programs:
         """The function that gives a list of the values of the names that a row binds."""
         row = function.rows[at]
         if bits == 0:
-            nothing = [0 for _ in bound_names(row)]
+            nothing = [0] * len(bound_names(row))
             return lambda known: nothing
         values = [ready(node, bits, scope) for node in row_nodes(row)]
         if isinstance(row, Let):

@@ -122,9 +122,13 @@ class AgreeTest(unittest.TestCase):
     def test_too_many(self):
         three = piece("x + y + z", "x y z")
         self.assertEqual(agree(three, three, 22), (22, None))
+        eight = piece("half x + half y + half z", "x y z")
+        self.assertEqual(count_points((1, 1, 1), 10), 4992)
+        self.assertEqual(agree(eight, eight, 10), (10, None))
         for one, other, bits, count in ((three, three, None, 64008), (three, three, 64, 64008),
                                         (piece("half half x", "x y"), piece("half half y", "x y"), 40,
                                          count_points((2, 2), 40)),
+                                        (piece("half x", "x y"), piece("half y", "x y"), 44, 5024),
                                         (piece("( if x mod 64 is 0 then half x else 0 )"),
                                          piece("half half half half half half half x"), 64, 66 * 128)):
             with self.assertRaises(TooMany) as caught:

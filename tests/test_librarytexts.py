@@ -103,6 +103,7 @@ class ReadTest(unittest.TestCase):
         for row in ("repeat", "repeat a", "repeat a = x", "repeat a = x by a", "repeat a = x by a times",
                     "repeat a = x by a times 3 4", "repeat a = x by a times x", "repeat a = x by a times -1",
                     "repeat a = x by a times 03", "repeat a = x by a times 00", "repeat a = x by a times ( 3 )",
+                    "repeat a = x by a time 3", "repeat a = x by a , 3", "repeat a = x by a by 3",
                     "repeat a = x by a times 3 ", "repeat a = x times 3", "repeat a = by a times 3",
                     "repeat a = x by times 3", "repeat = x by a times 3", "repeat a x by a times 3",
                     "repeat A = x by a times 3", "repeat half = x by a times 3", "repeat 3 = x by a times 3",

@@ -80,7 +80,7 @@ class ConstructorTest(unittest.TestCase):
             for rest in (-1, modulus, modulus + 1, *NO_INTEGERS):
                 with self.assertRaises(InvalidNode):
                     Choose(A, modulus, rest, B, C)
-        for modulus in (-2, 0, 1, 3, 6, 12, 63, 65, 128, *NO_INTEGERS):
+        for modulus in (-2, 0, 1, 3, 6, 12, 63, 65, 128, 2.0, *NO_INTEGERS):
             with self.assertRaises(InvalidNode):
                 Choose(A, modulus, 0, B, C)
 

@@ -371,6 +371,8 @@ class OperatorTest(unittest.TestCase):
         self.assertFalse(table == Table.of(piece("x * x"), 4))
         self.assertFalse(table == Table.of(piece("x * x + 16"), 5))
         self.assertFalse(Table.constant(0, 1, 3) == Table.constant(0, 2, 3))
+        # The lists for two bits and for three are equally long.
+        self.assertFalse(Table.constant(0, 1, 2) == Table.constant(0, 1, 3))
         # They differ at the even integers with an odd half only.
         self.assertFalse(Table.of(piece("0"), 1) == Table.of(piece("( if x mod 4 is 2 then 1 else 0 )"), 1))
         self.assertFalse(Table.of(piece("half x"), 1) == Table.of(piece("0"), 1))

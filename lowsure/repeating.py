@@ -41,14 +41,14 @@ def at_once(steps, times, bits):
     # The values of the rounds so far, at each vector: twice as many rounds for each binary digit of the number.
     values = list(vectors(len(steps), bits))
     for digit in f"{times:b}":
-        rows = state_rows(shape, values)
-        values = [[evaluated(state, value, mask) for state in rows] for value in values]
+        so_far = state_rows(shape, values)
+        values = [[evaluated(rows, value, mask) for rows in so_far] for value in values]
         if digit == "1":
             values = [[step(value) for step in steps] for value in values]
     whole = state_rows(shape, values)
 
     def repeated(starts):
         low = [start & mask for start in starts]
-        return [evaluated(end, low, mask) for end in whole]
+        return [evaluated(polynomial, low, mask) for polynomial in whole]
 
     return repeated

@@ -7,8 +7,12 @@ MOST_POINTS = 5000
 
 def twos(n):
     """The number of times that 2 divides n!."""
-    digits = f"{n:b}"
-    return n - digits.count("1")
+    found = 0
+    left = n >> 1
+    while left > 0:
+        found = found + left
+        left = left >> 1
+    return found
 
 
 def vectors(count, bits):
@@ -34,13 +38,24 @@ def shares(bits):
     return found
 
 
+def vector_list(count, bits):
+    """The tuples that `vectors` iterates over, as a list: what operators run may not iterate over a generator."""
+    if count == 0:
+        return [()]
+    found = []
+    for first, used in enumerate(shares(bits)):
+        for others in vector_list(count - 1, bits - used):
+            found.append((first, *others))
+    return found
+
+
 def count_vectors(count, bits):
     """The number of the tuples that `vectors` iterates over."""
     single = shares(bits)
     # ways[n] is the number of tuples of the length reached so far that have n twos in all.
-    ways = [1] + [0] * (bits - 1)
+    ways = [1 if used == 0 else 0 for used in range(bits)]
     for _ in range(count):
-        longer = [0] * bits
+        longer = [0 for _ in range(bits)]
         for share in single:
             for used in range(bits - share):
                 longer[used + share] = longer[used + share] + ways[used]
@@ -65,6 +80,15 @@ def points(loss, bits):
         first = residues(loss, number)
         for vector in vectors(inputs, bits):
             yield tuple([first[at] + (vector[at] << loss[at]) for at in range(inputs)])
+
+
+def point_list(loss, bits):
+    """The list of a loss, as a list: for those that are short."""
+    inputs = len(loss)
+    firsts = [residues(loss, number) for number in range(1 << sum(loss))]
+    places = vector_list(inputs, bits)
+    return [tuple([first[at] + (place[at] << loss[at]) for at in range(inputs)])
+            for first in firsts for place in places]
 
 
 def count_points(loss, bits):

@@ -1,7 +1,7 @@
 """Functions to some bits that are given by their values at the list."""
 
 from lowsure.errors import Mismatch, NoTable
-from lowsure.lists import check_short, count_points, count_vectors, greater_loss, points, twos, vectors
+from lowsure.lists import check_short, count_points, count_vectors, greater_loss, point_list, points, twos, vectors
 from lowsure.polynomials import Shape, evaluated
 
 
@@ -109,7 +109,7 @@ class Table:
         """The values at the list of a loss that is as great as the own one, or greater."""
         if loss == self.loss:
             return self.entries
-        return [self.worth(point) for point in points(loss, self.bits)]
+        return [self.worth(point) for point in point_list(loss, self.bits)]
 
     def common_loss(self, other):
         """The greater loss of two tables that can be added or multiplied."""

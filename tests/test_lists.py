@@ -4,7 +4,7 @@ import itertools
 import time
 import unittest
 
-from lowsure.lists import count_points, count_vectors, points, twos, vectors
+from lowsure.lists import count_points, count_vectors, point_list, points, twos, vector_list, vectors
 from tests import plain
 
 
@@ -28,6 +28,14 @@ class VectorsTest(unittest.TestCase):
             for bits in (1, 2, 3, 4, 5, 8, 9, 12):
                 self.assertEqual(list(vectors(count, bits)), plain.vectors(count, bits))
                 self.assertEqual(count_vectors(count, bits), len(plain.vectors(count, bits)))
+
+    def test_lists_of_them(self):
+        for count in (1, 2, 3):
+            for bits in (1, 2, 3, 5, 12):
+                self.assertEqual(vector_list(count, bits), list(vectors(count, bits)))
+        for loss in ((0,), (2,), [0, 3], (2, 1), (1, 0, 2)):
+            for bits in (1, 2, 5):
+                self.assertEqual(point_list(loss, bits), list(points(loss, bits)))
 
     def test_by_hand(self):
         self.assertEqual(list(vectors(1, 1)), [(0,), (1,)])

@@ -3,10 +3,10 @@
 from lowsure.compiling import Even, Scope, ready
 from lowsure.lists import points
 from lowsure.nodes import Over, Raised
-from lowsure.repeating import at_once, is_often, one_by_one
+from lowsure.repeating import Rounds
 from lowsure.rows import Let, bound_names, row_nodes
 
-STEP_BITS = 16
+STEP_BITS = 8
 
 
 class Program:
@@ -72,19 +72,18 @@ class Programs:
         values = [ready(node, bits, scope) for node in row_nodes(row)]
         if isinstance(row, Let):
             return lambda known: [value(known) for value in values]
-        repeated = self.steps_ready(function, at, bits)
-        return lambda known: repeated([value(known) for value in values])
+        repeated = self.repeat_ready(function, at, bits)
+        return lambda known: repeated.after([value(known) for value in values])
 
-    def steps_ready(self, function, at, bits):
-        """The function that gives the states of a `Repeat` at the end from those at the beginning."""
+    def repeat_ready(self, function, at, bits):
+        """The rounds of a `Repeat` for some bits of its states, or for more bits."""
         row = function.rows[at]
-        if not is_often(row):
-            return one_by_one(self.row_steps(row, bits), row.times)
-        # For one state the polynomials are made for a few numbers of bits only: they serve for all lower ones, too.
-        enough = bits if len(row.names) == 2 else -(-bits // STEP_BITS) * STEP_BITS
+        # For one state, the rounds for some numbers of bits serve for those a little lower, too: they keep what they
+        # found.
+        enough = bits if len(row.names) == 2 or bits < STEP_BITS else -(-bits // STEP_BITS) * STEP_BITS
         key = (function.name, at, enough)
         if key not in self.kept_steps:
-            self.kept_steps[key] = at_once(self.row_steps(row, enough), row.times, enough)
+            self.kept_steps[key] = Rounds(self.row_steps(row, enough), row.times, enough)
         return self.kept_steps[key]
 
     def row_steps(self, row, bits):

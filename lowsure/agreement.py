@@ -1,8 +1,9 @@
 """Whether, and where, two doers agree. A doer is a piece or a table."""
 
+from lowsure.arithmetic import same_bits
 from lowsure.errors import Mismatch, TooMany
 from lowsure.lists import check_short, greater_loss, points
-from lowsure.reach import reach
+from lowsure.reach import reach, values_of
 from lowsure.tables import Table
 
 MOST_DEPTH = 10
@@ -13,12 +14,6 @@ def check_pair(one, other, bits):
     if one.inputs != other.inputs or bits > min(one.most, other.most):
         raise Mismatch()
     check_short(greater_loss(one.loss, other.loss), bits)
-
-
-def same_bits(one, other, most):
-    """To how many bits, at most so many, two numbers agree."""
-    changed = one ^ other
-    return most if changed == 0 else min(most, (changed & -changed).bit_length() - 1)
 
 
 def agree(one, other, bits=None):
@@ -39,7 +34,7 @@ def agree(one, other, bits=None):
 def where_agree(one, other, bits):
     """The classes of integers at which two doers agree, as pairs of depth and residue."""
     check_pair(one, other, bits)
-    depth = max(reach(one, bits, 0), reach(other, bits, 0))
+    depth = max([reach(doer, bits, 0, values_of(doer, bits)) for doer in (one, other)])
     if depth > MOST_DEPTH:
         raise TooMany(1 << depth)
     same = [one((r,), bits) == other((r,), bits) for r in range(1 << depth)]

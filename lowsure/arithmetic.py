@@ -24,3 +24,9 @@ def power(base, times, mask):
         square = square * square & mask
         left = left >> 1
     return found & mask
+
+
+def same_bits(one, other, most):
+    """To how many bits, at most so many, two numbers agree."""
+    changed = one ^ other
+    return most if changed == 0 else min(most, (changed & -changed).bit_length() - 1)

@@ -93,3 +93,8 @@ class Shape:
         used = self.twos[down]
         return [(number >> (used + self.twos[at])) * factor * self.inverses[at] & self.mask
                 for at, number in enumerate(row)]
+
+
+def state_rows(shape, values):
+    """For each of some states the rows of coefficients, from a list of the states at each vector."""
+    return [shape.coefficients(shape.spread([value[at] for value in values])) for at in range(len(values[0]))]

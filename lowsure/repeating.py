@@ -8,7 +8,7 @@ that follow. States that never come again, where the steps are not one-to-one, a
 """
 
 from lowsure.lists import count_vectors, vector_list
-from lowsure.polynomials import Shape, differences, evaluated
+from lowsure.polynomials import Shape, differences, evaluated, state_rows
 
 # So few rounds are done one by one without further ado.
 FEW = 64
@@ -18,11 +18,6 @@ EARLY = (2, 8)
 LONGEST = (4, 16)
 # After so many rounds the two lowest bits have left those to which they never return.
 SOON = 8
-
-
-def state_rows(shape, values):
-    """The rows of coefficients for each of the states whose values at the vectors these are."""
-    return [shape.coefficients(shape.spread([value[at] for value in values])) for at in range(len(values[0]))]
 
 
 def extended(samples, at, mask):

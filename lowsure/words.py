@@ -38,10 +38,15 @@ def digits_value(word):
     return int(word)
 
 
+def signed_value(word):
+    """The integer that a word stands for, with a `-` before it or without one, or None."""
+    if not word.startswith("-"):
+        return digits_value(word)
+    value = digits_value(word[1:])
+    return None if value is None or value == 0 else -value
+
+
 def number_value(word):
     """The integer within the limits that a word stands for, or None."""
-    if not word.startswith("-"):
-        value = digits_value(word)
-        return value if value is not None and value < LIMIT else None
-    value = digits_value(word[1:])
-    return -value if value is not None and 0 < value < LIMIT else None
+    value = signed_value(word)
+    return value if is_small(value) else None

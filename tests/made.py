@@ -56,3 +56,28 @@ def random_function(source, name, earlier):
         rows.append(Repeat(states, starts, steps, source.choice([0, 1, 2, 5, 70, 100])))
         bound.extend(states)
     return Function(name, inputs, rows, random_node(source, bound, functions, 3))
+
+
+def random_row(source, registers, behind):
+    """A row of code, behind which there are so many rows."""
+    def one():
+        return source.randrange(registers)
+
+    word = source.choice("set copy add sub mul left right load store skip".split())
+    if word == "set":
+        return word, one(), source.choice([0, 1, -3, source.randint(-2 ** 64 + 1, 2 ** 64 - 1)])
+    if word in ("add", "sub", "mul"):
+        return word, one(), one(), one()
+    if word == "load":
+        return word, one(), source.randrange(3)
+    if word == "store":
+        return word, source.randrange(3), one()
+    if word == "skip":
+        modulus = source.choice([1, 2, 2, 4, 64])
+        return word, one(), modulus, source.randrange(modulus), min(behind, source.choice([0, 1, 2, 3, 7]))
+    return word, one(), one()
+
+
+def random_rows(source, registers, many):
+    """Rows of code for a machine with these registers."""
+    return [random_row(source, registers, many - 1 - at) for at in range(many)]

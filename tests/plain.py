@@ -165,3 +165,35 @@ def classes_where(holds, depth):
             if not inside and all([holds[n] for n in range(r, 2 ** depth, 2 ** d)]):
                 found.append((d, r))
     return tuple(sorted(found, key=lambda pair: pair[1]))
+
+
+def done_rows(machine, rows, inputs, fills):
+    """What `trace` tells, row by row."""
+    whole = 2 ** machine.width
+    registers = [*[x % whole for x in inputs], *[0] * machine.registers][:machine.registers]
+    slots, rights, found, at = [0] * 1000, 0, [], 0
+    while at < len(rows):
+        word, *items = rows[at]
+        done = at
+        at += 1
+        if word == "set":
+            registers[items[0]] = items[1] % whole
+        elif word == "copy":
+            registers[items[0]] = registers[items[1]]
+        elif word in ("add", "sub", "mul"):
+            one, other = registers[items[1]], registers[items[2]]
+            registers[items[0]] = {"add": one + other, "sub": one - other, "mul": one * other}[word] % whole
+        elif word == "left":
+            registers[items[0]] = registers[items[1]] * 2 % whole
+        elif word == "right":
+            fill = [*fills, *[0] * (rights + 1)][rights]
+            registers[items[0]] = registers[items[1]] // 2 + fill * whole // 2
+            rights += 1
+        elif word == "load":
+            registers[items[0]] = slots[items[1]]
+        elif word == "store":
+            slots[items[0]] = registers[items[1]]
+        elif registers[items[0]] % items[1] == items[2]:
+            at += items[3]
+        found.append((done, tuple(registers), rights))
+    return found

@@ -7,7 +7,11 @@ from pathlib import Path
 from lowsure.agreement import agree
 from lowsure.errors import InvalidText, NoTable
 from lowsure.library import Library
+from lowsure.machine import Code, Machine
+from lowsure.needed import needed, sure
 from lowsure.nodetexts import read_node, show_node
+from lowsure.runs import run
+from lowsure.steps import Step
 from lowsure.tables import Table, count_tables
 
 README = Path(__file__).resolve().parent.parent / "README.md"
@@ -28,6 +32,7 @@ class ExamplesTest(unittest.TestCase):
         self.assertEqual(sq((5,), 8), 15)
         self.assertEqual((sq.loss, tri.loss), ((1,), (1,)))
         self.assertEqual(agree(sq, tri), (64, None))
+        self.assertEqual((needed(sq, 4), sure(sq, (5,), 10)), ((5,), 4))
         cube = Library.read("function f x\ngive x ** 3 - x\nfunction zero x\ngive 0")
         self.assertEqual(agree(cube.piece("f"), cube.piece("zero"), 8)[0], 1)
 
@@ -37,6 +42,15 @@ class ExamplesTest(unittest.TestCase):
             Table((0,), 3, (0, 3, 3, 5))
         self.assertEqual(caught.exception.at, 2)
         self.assertEqual(count_tables((0,), 3), 10)
+
+    def test_steps(self):
+        step = Step.of(("s",), (read_node("5 * s + 3"),), 3)
+        self.assertEqual((list(step.rounds((0,), 5)), step.period(), (~step)((3,))),
+                         ([(0,), (3,), (2,), (5,), (4,)], 8, (0,)))
+
+    def test_code(self):
+        code = Code.read("right 1 0\nmul 0 1 1")
+        self.assertEqual((run(Machine(6, 3), code, (2,)), run(Machine(6, 3), code, (2,), (1,))), (1, 1))
 
     def test_readme(self):
         self.assertEqual(doctest.testfile(str(README), module_relative=False).failed, 0)

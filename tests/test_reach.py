@@ -6,13 +6,17 @@ import unittest
 from lowsure.errors import NotOdd
 from lowsure.library import Library
 from lowsure.lists import count_points
-from lowsure.reach import reach
+from lowsure.reach import reach, values_of
 from lowsure.tables import Table
 from tests.made import random_function
 
 
 def piece(result, inputs="x"):
     return Library.read(f"function f {inputs}\ngive {result}").piece("f")
+
+
+def reached(doer, bits, at):
+    return reach(doer, bits, at, values_of(doer, bits))
 
 
 class ReachTest(unittest.TestCase):
@@ -22,12 +26,12 @@ class ReachTest(unittest.TestCase):
                                      ("x * x", 1, 1), ("half ( x * x + x )", 4, 5), ("4 * x", 5, 3), ("32 * x", 5, 0),
                                      ("( if x mod 16 is 3 then 1 else 0 )", 1, 4), ("x ** 4", 5, 3), ("3 to x", 6, 4),
                                      ("0 * half half half x", 5, 0), ("half ( 2 * x )", 7, 7)):
-            self.assertEqual(reach(piece(result), bits, 0), number, result)
+            self.assertEqual(reached(piece(result), bits, 0), number, result)
 
     def test_two_inputs(self):
         found = piece("half x + 4 * y + x * y * 0", "x y")
-        self.assertEqual([reach(found, 5, at) for at in (0, 1)], [6, 3])
-        self.assertEqual([reach(Table.of(found, 5), 5, at) for at in (0, 1)], [6, 3])
+        self.assertEqual([reached(found, 5, at) for at in (0, 1)], [6, 3])
+        self.assertEqual([reached(Table.of(found, 5), 5, at) for at in (0, 1)], [6, 3])
 
     def test_made_pieces(self):
         for seed in range(60):
@@ -40,7 +44,7 @@ class ReachTest(unittest.TestCase):
             depth = made.loss[0] + 3
             values = [made((x,), 3) for x in range(2 ** depth)]
             same = [a for a in range(depth + 1) if all([values[x] == values[x % 2 ** a] for x in range(2 ** depth)])]
-            self.assertEqual(reach(made, 3, 0), same[0])
+            self.assertEqual(reached(made, 3, 0), same[0])
 
 
 if __name__ == "__main__":

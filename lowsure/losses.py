@@ -4,6 +4,7 @@ The loss of a node is a dict here: its keys are the indexes of the inputs that t
 a loss greater than 0.
 """
 
+from lowsure.folding import folded
 from lowsure.nodes import Call, Choose, Half, Name, Raised
 from lowsure.rows import bound_names, row_nodes
 
@@ -39,14 +40,7 @@ def part_loss(part, inner, bound, known):
 
 def node_loss(node, bound, known):
     """The loss of a node; `bound` are the losses of names, `known` those of the functions before."""
-    done = []
-    nodes = list(node.parts())
-    for part in reversed(nodes):
-        inner = []
-        for _ in part._nodes():
-            inner.append(done.pop())
-        done.append(part_loss(part, inner, bound, known))
-    return done[0]
+    return folded(node, lambda part, inner: part_loss(part, inner, bound, known))
 
 
 def function_loss(function, known):

@@ -28,6 +28,18 @@ def registers_of(row):
     return [number for letter, number in zip(FORMS[row[0]], row[1:]) if letter in "WR"]
 
 
+def read_places(row):
+    """The registers and slots that a row of code reads; slots are counted behind all registers."""
+    if row[0] == "load":
+        return [MOST_REGISTERS + row[2]]
+    return [number for letter, number in zip(FORMS[row[0]], row[1:]) if letter == "R"]
+
+
+def written_place(row):
+    """The one that a row of code writes, if it is no skip."""
+    return MOST_REGISTERS + row[1] if row[0] == "store" else row[1]
+
+
 def is_item(letter, value):
     """Whether a value may stand at the place of a letter."""
     if letter == "I":

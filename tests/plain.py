@@ -197,3 +197,34 @@ def done_rows(machine, rows, inputs, fills):
             at += items[3]
         found.append((done, tuple(registers), rights))
     return found
+
+
+def looked_at(rows, inputs):
+    """The loss and the depth of code, by going through all of its ways."""
+    loss, depth = [0] * inputs, 0
+    waiting = [(0, {("register", at): {at: 0} for at in range(inputs)}, {})]
+    while waiting:
+        at, held, depths = waiting.pop()
+        if at == len(rows):
+            for number, deep in held.get(("register", 0), {}).items():
+                loss[number] = max(loss[number], deep)
+            depth = max(depth, depths.get(("register", 0), 0))
+            continue
+        word, *items = rows[at]
+        if word == "skip":
+            bits = [1, 2, 4, 8, 16, 32, 64].index(items[1])
+            for number, deep in held.get(("register", items[0]), {}).items():
+                loss[number] = max(loss[number], deep + bits)
+            depth = max(depth, depths.get(("register", items[0]), 0) + bits)
+            waiting.extend([(at + 1, held, depths), (at + 1 + items[3], held, depths)])
+            continue
+        target = ("slot" if word == "store" else "register", items[0])
+        sources = [] if word == "set" else [("slot" if word == "load" else "register", item) for item in items[1:]]
+        more = 1 if word == "right" else 0
+        got = {}
+        for source in sources:
+            for number, deep in held.get(source, {}).items():
+                got[number] = max(got.get(number, 0), deep + more)
+        deepest = max([0, *[depths.get(source, 0) for source in sources]]) + more
+        waiting.append((at + 1, {**held, target: got}, {**depths, target: deepest}))
+    return tuple(loss), depth

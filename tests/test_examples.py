@@ -10,6 +10,7 @@ from lowsure.library import Library
 from lowsure.machine import Code, Machine
 from lowsure.needed import needed, sure
 from lowsure.nodetexts import read_node, show_node
+from lowsure.rightness import fixed_bits
 from lowsure.runs import run
 from lowsure.steps import Step
 from lowsure.tables import Table, count_tables
@@ -50,7 +51,8 @@ class ExamplesTest(unittest.TestCase):
 
     def test_code(self):
         code = Code.read("right 1 0\nmul 0 1 1")
-        self.assertEqual((run(Machine(6, 3), code, (2,)), run(Machine(6, 3), code, (2,), (1,))), (1, 1))
+        self.assertEqual((run(Machine(6, 3), code, (2,)), run(Machine(6, 3), code, (2,), (1,)),
+                          fixed_bits(Machine(6, 3), code, 1)), (1, 1, 6))
 
     def test_readme(self):
         self.assertEqual(doctest.testfile(str(README), module_relative=False).failed, 0)

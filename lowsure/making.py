@@ -13,10 +13,10 @@ WORDS = {"Add": "add", "Subtract": "sub", "Multiply": "mul"}
 
 
 def function_nodes(function):
-    """All nodes of a function, with their parts."""
+    """All nodes of a function but its steps, with their parts: in steps there is nothing to look for."""
     nodes = [function.result]
     for row in function.rows:
-        nodes.extend(row_nodes(row) if isinstance(row, Let) else (*row.starts, *row.steps))
+        nodes.extend(row_nodes(row))
     return [part for node in nodes for part in node.parts()]
 
 

@@ -128,8 +128,8 @@ class Needs:
             needed = max([wanted.get(name, 0) for name in bound_names(row)])
             if needed == 0:
                 needed = self.bits
-            nodes = row_nodes(row) if isinstance(row, Let) else (*row.starts, *row.steps)
-            most = max([most, *[self.node_need(node, needed, wanted) for node in nodes]])
+            # Steps need no more bits than their starts, since they are made of sums, differences and products only.
+            most = max([most, *[self.node_need(node, needed, wanted) for node in row_nodes(row)]])
         return most
 
     def node_need(self, node, bits, wanted):

@@ -67,6 +67,24 @@ class FewBitsTest(unittest.TestCase):
             for times in (65, 1000, 1001, 10 ** 18, MANY):
                 self.compare(often(text, times, "s , t"), step, 2, times, 3, random.Random(times))
 
+    def test_slopes_that_differ(self):
+        # Near (0, 0) alone, these turn the states, which stand still modulo 4 with others beside them.
+        near, beside = "s * ( s + 1 ) ** 2 * ( t + 1 )", "t * ( t + 1 ) ** 2 * ( s + 1 )"
+        swap = f"s + {near} + {beside} , t + {near} + {beside}"
+        turn = f"s + {near} + {beside} , t + {near}"
+
+        def slopes(s, t):
+            return s * (s + 1) ** 2 * (t + 1), t * (t + 1) ** 2 * (s + 1)
+
+        for text, step in ((swap, lambda s, t: (s + sum(slopes(s, t)), t + sum(slopes(s, t)))),
+                           (turn, lambda s, t: (s + sum(slopes(s, t)), t + slopes(s, t)[0]))):
+            for times in (1000, 1001, 1002, 10 ** 18 + 1 - 2, MANY, MANY - 1):
+                found = often(text, times, "s , t")
+                for bits in (2, 3, 4):
+                    for place, end in all_ends(step, 2, times, bits).items():
+                        if place[0] % 2 == place[1] % 2 == 0:
+                            self.assertEqual(found(place, bits), end[0], (times, bits, place))
+
     def test_made_steps(self):
         for seed in range(60):
             source = random.Random(seed)

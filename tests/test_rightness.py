@@ -124,6 +124,18 @@ class WrongTest(Checks):
         self.assertEqual(wrong_at(machine, code, piece("2 * half half x"), 10)[1][-1:], (1,))
         self.assertFalse(self.check_wrong(machine, code, piece("2 * half half x"), 9))
 
+    def test_fills_of_later_rights(self):
+        for rights in range(5):
+            code = code_of(*["right 1 1"] * rights, "right 0 0", "right 2 2")
+            self.assertTrue(self.check_wrong(Machine(16, 3), code, Table.of(piece("half x"), 16), 16))
+            found = wrong_at(Machine(16, 3), code_of(*["right 1 1"] * rights, "right 2 0", "set 1 2", "mul 0 1 2"),
+                             piece("x - ( if x mod 2 is 1 then 1 else 0 )"), 16)
+            self.assertIsNone(found)
+            # Only a fill can show this, and it comes behind all others.
+            found = wrong_at(Machine(16, 3), code_of(*["right 1 1"] * rights, "set 2 0", "right 2 2", "add 0 0 2"),
+                             piece("x"), 16)
+            self.assertEqual(found, ((0,), (0,) * rights + (1,)))
+
     def test_made_code(self):
         """Right code with a row that is changed, compared with running it at all points and fills."""
         wrong = right = 0
@@ -175,7 +187,24 @@ class WrongTest(Checks):
         self.check_error(TooMany, {"count": 2048},
                          lambda: wrong_at(Machine(64, 3), code_of("skip 0 64 0 0", *["right 1 1"] * 15), f, 1))
 
+    def test_depth_and_width(self):
+        for width in (8, 9, 10, 11):
+            for depth in (3, 4, 5):
+                code = code_of(*["right 0 0"] * depth)
+                doer = piece("half " * depth + "x")
+                if 2 * depth + 2 > width:
+                    self.check_error(InvalidCode, {"word": "loss", "row": -1},
+                                     lambda: wrong_at(Machine(width, 3), code, doer, 1))
+                else:
+                    self.assertFalse(self.check_wrong(Machine(width, 3), code, doer, width - depth))
+
     def test_count(self):
+        for rights in (999, 1000):
+            code = code_of(*["right 1 1"] * rights)
+            if rights == 1000:
+                self.check_error(TooMany, {"count": 2002}, lambda: wrong_at(Machine(64, 3), code, piece("x"), 1))
+            else:
+                self.assertIsNone(wrong_at(Machine(64, 3), code, piece("x"), 1))
         for bits in (1, 3, 8):
             for rights in (0, 1, 5, 20):
                 code = code_of("skip 0 64 0 0", *["right 1 1"] * rights)

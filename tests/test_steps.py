@@ -154,7 +154,8 @@ class OftenTest(unittest.TestCase):
         self.assertEqual([(one * other)((5,)), (other * one)((5,))], [(16,), (18,)])
         pair, swap = step_of("s * t , s + 7", 5, "s t"), step_of("t , s", 5, "s t")
         self.assertEqual([(pair * swap)((2, 3)), (swap * pair)((2, 3))], [(6, 10), (9, 6)])
-        for first, second in ((one, pair), (pair, one), (one, step_of("s + 1", 7)), (pair, step_of("t , s", 4, "s t"))):
+        for first, second in ((one, pair), (pair, one), (one, step_of("s + 1", 7)), (pair, step_of("t , s", 4, "s t")),
+                              (step_of("s", 2), step_of("s", 3)), (step_of("s", 3), step_of("s", 2))):
             with self.assertRaises(Mismatch):
                 first * second
 

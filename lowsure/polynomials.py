@@ -88,11 +88,14 @@ class Shape:
         return [self.divided(row, down) for down, row in enumerate(found)]
 
     def divided(self, row, down):
-        """The differences of a row, divided by the factorials of their vectors."""
+        """The differences of a row, divided by the factorials of their vectors, without zeros at the end."""
         factor = self.inverses[down]
         used = self.twos[down]
-        return [(number >> (used + self.twos[at])) * factor * self.inverses[at] & self.mask
-                for at, number in enumerate(row)]
+        found = [(number >> (used + self.twos[at])) * factor * self.inverses[at] & self.mask
+                 for at, number in enumerate(row)]
+        while found and found[-1] == 0:
+            found.pop()
+        return found
 
 
 def state_rows(shape, values):

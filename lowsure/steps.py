@@ -91,21 +91,25 @@ class Step:
 
     def period(self):
         """The least number of times, from 1 on, that leaves all states as they are."""
-        wrong = self.collision()
-        if wrong is not None:
-            raise NotOneToOne(wrong[0], wrong[1], wrong[2])
-        # The period is a power of two, for two states times 1, 3 or 9.
-        if self.states == 1:
-            return 1 << self.doublings(1)
-        twos = self.doublings(9)
-        if self.is_still(self.values_after(1 << twos)):
-            return 1 << twos
-        return 3 << twos if self.is_still(self.values_after(3 << twos)) else 9 << twos
+        return self.period_of_twos(len(self.doubled()))
 
     def late(self):
         """For 2 and 3, if they divide the period, a state that is not back after this part of it."""
-        period = self.period()
-        return tuple([(prime, self.moved(period // prime)) for prime in (2, 3) if period % prime == 0])
+        found = []
+        doubled = self.doubled()
+        if doubled:
+            # What is not back after an odd number of halves of the period is not back after one of them.
+            found.append((2, self.moved(doubled[-1])))
+        period = self.period_of_twos(len(doubled))
+        if period % 3 == 0:
+            found.append((3, self.moved(self.values_after(period // 3))))
+        return tuple(found)
+
+    def period_of_twos(self, twos):
+        """The period, if 2 divides it so many times; what is left is 1, for two states 1, 3 or 9."""
+        if self.states == 1 or self.is_still(self.values_after(1 << twos)):
+            return 1 << twos
+        return 3 << twos if self.is_still(self.values_after(3 << twos)) else 9 << twos
 
     def round_trip(self):
         """A number of times that leaves all states as they are that come again."""
@@ -126,23 +130,25 @@ class Step:
                 values = [self.follow(state) for state in values]
         return values
 
-    def doublings(self, times):
-        """How often this number of times has to be doubled to leave all states as they are."""
+    def doubled(self):
+        """The values of the step done once, for two states nine times, then twice as often, until nothing moves."""
+        wrong = self.collision()
+        if wrong is not None:
+            raise NotOneToOne(wrong[0], wrong[1], wrong[2])
         shape = Shape(self.states, self.bits)
-        count = 0
-        now = self.values_after(times)
+        found = []
+        now = self.values_after(1 if self.states == 1 else 9)
         while not self.is_still(now):
+            found.append(now)
             now = behind(shape, now, now)
-            count += 1
-        return count
+        return found
 
     def is_still(self, values):
         """Whether a step with these values at the vectors leaves all states as they are."""
         return values == vector_list(self.states, self.bits)
 
-    def moved(self, times):
-        """A state that is not back after some times."""
-        values = self.values_after(times)
+    def moved(self, values):
+        """A state that a step with these values at the vectors moves."""
         states = vector_list(self.states, self.bits)
         return [state for state, value in zip(states, values) if value != state][0]
 

@@ -28,26 +28,30 @@ def show_row(row):
 
 def read_functions(text):
     """A list of the functions of a text; raises InvalidText with the index of the first row that cannot stand there."""
-    functions = []
-    head = None
-    rows = []
     texts = text.split("\n")
-    for at, row in enumerate(texts):
-        words = row.split(" ")
-        read = read_head(words) if head is None else read_row(words)
+    functions = []
+    at = 0
+    while at < len(texts):
+        function, at = read_function(texts, at)
+        functions.append(function)
+    return functions
+
+
+def read_function(texts, begin):
+    """The function that begins at an index of some rows, and the index behind it; raises InvalidText."""
+    head = read_head(texts[begin].split(" "))
+    if head is None:
+        raise InvalidText(begin)
+    rows = []
+    for at in range(begin + 1, len(texts)):
+        words = texts[at].split(" ")
+        read = read_row(words)
         if read is None:
             raise InvalidText(at)
-        if head is None:
-            head = read
-            rows = []
-        elif words[0] == "give":
-            functions.append(Function(head[0], head[1:], rows, read))
-            head = None
-        else:
-            rows.append(read)
-    if head is not None:
-        raise InvalidText(len(texts))
-    return functions
+        if words[0] == "give":
+            return (Function(head[0], head[1:], rows, read), at + 1)
+        rows.append(read)
+    raise InvalidText(len(texts))
 
 
 def read_head(words):

@@ -31,6 +31,12 @@ def checked_loss(machine, code, inputs):
     return loss
 
 
+def check_bits(machine, doer, bits):
+    """Raises Mismatch if the machine or the doer has fewer bits."""
+    if bits > min(machine.width, doer.most):
+        raise Mismatch()
+
+
 def check_few(loss, bits, code):
     """Raises TooMany if the code would have to be run too often."""
     count = count_points(loss, bits) * (count_rights(code) + 1)
@@ -52,8 +58,7 @@ def wrong_in(machine, code, doer, bits, places):
 
 def wrong_at(machine, code, doer, bits):
     """A point and fills at which code does not have the low bits of a doer, or None."""
-    if bits > min(machine.width, doer.most):
-        raise Mismatch()
+    check_bits(machine, doer, bits)
     loss = greater_loss(doer.loss, checked_loss(machine, code, doer.inputs))
     check_few(loss, bits, code)
     places = list(points(loss, bits))

@@ -6,11 +6,13 @@ from pathlib import Path
 
 from lowsure.agreement import agree
 from lowsure.errors import InvalidText, NoTable
+from lowsure.house import House
 from lowsure.library import Library
 from lowsure.machine import Code, Machine
 from lowsure.needed import needed, sure
 from lowsure.nodetexts import read_node, show_node
 from lowsure.rightness import fixed_bits
+from lowsure.rows import Function
 from lowsure.runs import run
 from lowsure.steps import Step
 from lowsure.tables import Table, count_tables
@@ -53,6 +55,12 @@ class ExamplesTest(unittest.TestCase):
         code = Code.read("right 1 0\nmul 0 1 1")
         self.assertEqual((run(Machine(6, 3), code, (2,)), run(Machine(6, 3), code, (2,), (1,)),
                           fixed_bits(Machine(6, 3), code, 1)), (1, 1, 6))
+
+    def test_house(self):
+        house = House(Machine(16, 4))
+        self.assertEqual((house.edit(Function("f", ("x",), (), read_node("half x")), 4), house.call("f", (9,))), ((), 4))
+        self.assertEqual((house.edit(Function("f", ("x",), (), read_node("half x + 16"))),
+                          len(house.edit(Function("f", ("x",), (), read_node("half x + 4"))))), ((), 1))
 
     def test_readme(self):
         self.assertEqual(doctest.testfile(str(README), module_relative=False).failed, 0)

@@ -63,9 +63,11 @@ class AnswersTest(Checks):
         desk = Desk()
         desk.say("machine 16 4")
         for row, answer in (("edit function f x ; give half x", "f"), ("edit function g x ; give f ( x ) * 16", "g"),
-                            ("edit function h x ; repeat s , t = x , 1 by t , s times 3 ; let a = f ( s ) ; give a + t", "h"),
+                            ("edit function h x ; repeat s , t = x , 1 by t , s times 3 ; let a = f ( s ) ; give a + t",
+                             "h"),
                             ("edit function f x ; give half x", "none"), ("edit function f x ; give half x + 256", "none"),
-                            ("edit function f x ; give half x + 16", "f h"), ("edit function g x ; give 16 * f ( x )", "none"),
+                            ("edit function f x ; give half x + 16", "f h"),
+                            ("edit function g x ; give 16 * f ( x )", "none"),
                             ("edit function f x ; give half x + 1", "f g h"), ("edit function k x y z ; give x", "k")):
             self.assertEqual(desk.say(row), answer, row)
         self.assertEqual((len(desk), desk.say("call f 9"), desk.say("value h 8 9")), (4, "5", "10"))
@@ -95,8 +97,9 @@ class AnswersTest(Checks):
         self.assertEqual([desk.say(f"loss {name}") for name in "fghkm"], ["1", "1 0", "1", "6 1", "0"])
         self.assertEqual([desk.say(f"needed {name} 3") for name in "fghm"], ["4", "4 3", "4", "0"])
         self.assertEqual(desk.say("needed k 1"), "6 2")
-        self.assertEqual([desk.say(row) for row in ("sure f 10 5", "sure f 3 5", "sure f 64 100", "sure f 5 0", "sure m 64 0",
-                                                    "sure g 10 5 3", "sure g 10 0 0")], ["4", "3", "64", "0", "64", "3", "0"])
+        for row, answer in (("f 10 5", "4"), ("f 3 5", "3"), ("f 64 100", "64"), ("f 5 0", "0"), ("m 64 0", "64"),
+                            ("g 10 5 3", "3"), ("g 10 0 0", "0")):
+            self.assertEqual(desk.say("sure " + row), answer)
 
     def test_agree(self):
         desk = desk_of("edit function f x ; give x ** 3 - x", "edit function zero x ; give 0",
@@ -197,8 +200,8 @@ class InvalidRowsTest(Checks):
         for row in ("", " ", "undo ", " undo", "undo\n", "\nundo", "un\ndo", "Undo", "UNDO", "undo 1", "undo undo", "help",
                     "undo\t", "machine  16 4", "machine 16 4 ", "machine 16 4\n", " machine 16 4", "machine\n16 4",
                     "edit  function f x ; give x", "edit function f x ; give x ", "edit function f x\ngive x", "edit",
-                    "edit ", "edit function f x ;  give x", "edit function f  x ; give x", "loss f ", "loss  f", "value f 8 ",
-                    "code f\n", "function f x ; give x"):
+                    "edit ", "edit function f x ;  give x", "edit function f  x ; give x", "loss f ", "loss  f",
+                    "value f 8 ", "code f\n", "function f x ; give x"):
             self.check_invalid(row)
 
     def test_numbers_of_words(self):
@@ -280,11 +283,13 @@ class ErrorsTest(Checks):
         desk = desk_of()
         for text, at in (("x", 0), ("function", 0), ("function k", 0), ("give x", 0), ("function k x", 1),
                          ("function k x ; let a = x", 2), ("function k x ; give", 1), ("function k x ; give )", 1),
-                         ("function k x ; let a = ( ; give x", 1), ("function k x ; give x ;", 1), ("; function k x ; give x", 0),
+                         ("function k x ; let a = ( ; give x", 1), ("function k x ; give x ;", 1),
+                         ("; function k x ; give x", 0),
                          ("function k x ; give x ; give x", 2), ("function k x ; give x ; let a = x", 2),
                          ("function k x ; give x ; function m x ; give x", 2), ("function k x ; give x ; function m x", 2),
                          ("function k x ; give x ; function m x ; give )", 2), ("function k x ; give x ; x", 2),
-                         ("function k x ; give x ; ; give x", 2), ("function k x ; ; give x", 1), ("function k x; give x", 0),
+                         ("function k x ; give x ; ; give x", 2), ("function k x ; ; give x", 1),
+                         ("function k x; give x", 0),
                          ("function k x ;give x", 0), ("function k x ; let a = x ; let b = a ; give b ; give b", 4),
                          ("function k x ; give x + 18446744073709551616", 1), (";", 0), ("; ;", 0), ("; ; ;", 0),
                          ("function f x ; give 3 ; function f x ; give 4", 2), ("function let x ; give x", 0),

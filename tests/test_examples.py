@@ -1,10 +1,11 @@
-"""The examples of the document that the modules so far can answer, and those of README.md."""
+"""The examples of the document, and those of README.md."""
 
 import doctest
 import unittest
 from pathlib import Path
 
 from lowsure.agreement import agree
+from lowsure.deciding import decides
 from lowsure.errors import InvalidText, NoTable
 from lowsure.house import House
 from lowsure.library import Library
@@ -45,6 +46,8 @@ class ExamplesTest(unittest.TestCase):
             Table((0,), 3, (0, 3, 3, 5))
         self.assertEqual(caught.exception.at, 2)
         self.assertEqual(count_tables((0,), 3), 10)
+        self.assertEqual((decides([(0,), (1,), (2,), (3,)], (0,), 3), decides([(0,), (4,), (1,), (2,)], (0,), 3)),
+                         (True, False))
 
     def test_steps(self):
         step = Step.of(("s",), (read_node("5 * s + 3"),), 3)

@@ -9,7 +9,7 @@ from lowsure.library import Library
 from lowsure.lists import count_points
 from lowsure.machine import Machine
 from lowsure.making import make
-from lowsure.nodes import Call, Name, Number
+from lowsure.nodes import Call, Number
 from lowsure.nodetexts import read_node
 from lowsure.rightness import wrong_at
 from lowsure.rows import Function, Let
@@ -31,7 +31,8 @@ def house_of(width, *pairs):
 
 def kept(house):
     """All that can be seen of a house."""
-    return (house.library, house.names, [(house.code(name), house.asked(name)) for name in house.names], house.log(), len(house))
+    pieces = [(house.code(name), house.asked(name)) for name in house.names]
+    return (house.library, house.names, pieces, house.log(), len(house))
 
 
 class PlainHouse:
@@ -311,8 +312,7 @@ class ErrorsTest(Checks):
             self.check_refused(house, CannotMake, {"word": word}, lambda: house.edit(function("f", result), bits))
             house = self.houses()
             self.check_refused(house, CannotMake, {"word": word}, lambda: house.edit(function("k", result), bits))
-        repeated = Function("f", ("x",), Library.read("function f x\nrepeat s = x by s * s + 1 times 17\ngive s").functions[0].rows,
-                            Name("s"))
+        repeated = Library.read("function f x\nrepeat s = x by s * s + 1 times 17\ngive s").functions[0]
         house = self.houses()
         self.check_refused(house, CannotMake, {"word": "repeat"}, lambda: house.edit(repeated))
         house = self.houses()
@@ -485,7 +485,8 @@ class TriedTest(Checks):
         told = house.tried(functions)
         functions.clear()
         self.assertEqual(told, wanted)
-        self.assertEqual([[name for name, point, fills in each] for each in told], [["f", "g"], [], ["f", "g", "h"], ["g", "h"]])
+        self.assertEqual([[name for name, point, fills in each] for each in told],
+                         [["f", "g"], [], ["f", "g", "h"], ["g", "h"]])
         self.assertEqual(kept(house), before)
         for name in house.names:
             self.assertIs(house.code(name), codes[name])
@@ -499,7 +500,8 @@ class TriedTest(Checks):
                                      (function("f", "3 to x"), CannotMake, {"word": "raised"}),
                                      (function("k", "1 over x"), NotOdd, {"name": "k", "point": (0,)})):
             house = house_of(16, ("f", "x"), ("g", "half f ( x )"))
-            self.check_refused(house, error, fields, lambda: house.tried([function("f", "x + 1"), wrong, function("f", "x")]))
+            functions = [function("f", "x + 1"), wrong, function("f", "x")]
+            self.check_refused(house, error, fields, lambda: house.tried(functions))
 
     def test_in_an_empty_house(self):
         house = House(Machine(16, 4))

@@ -23,8 +23,9 @@ ALL_ROWS = [(word, 0, one) for word in ("copy", "left", "right") for one in (0, 
 ALL_ROWS += [("right", 1, 0), ("right", 1, 1), ("copy", 1, 0), ("left", 1, 0), ("set", 0, 1), ("set", 1, -1)]
 ALL_ROWS += [(word, 0, one, 1) for word in ("add", "sub", "mul") for one in (0, 1)]
 ALL_ROWS += [("mul", 0, 0, 0), ("mul", 1, 0, 0), ("add", 1, 1, 0), ("sub", 1, 0, 1), ("store", 5, 0), ("load", 0, 5)]
-RESULTS = ("x", "half x", "half half half x", "8 * x", "x ** 8", "x ** 4 - x", "0", "1", "-1", "2 * half x", "x - 2 * half x",
-           "half ( x * x + x )", "half x * half x", "half ( 3 * x )", "x * half x", "x ** 3", "3 * x", "2 * half half x",
+RESULTS = ("x", "half x", "half half half x", "8 * x", "x ** 8", "x ** 4 - x", "0", "1", "-1", "2 * half x",
+           "x - 2 * half x", "half ( x * x + x )", "half x * half x", "half ( 3 * x )", "x * half x", "x ** 3", "3 * x",
+           "2 * half half x",
            "( if x mod 2 is 0 then x else 3 * x )", "7", "x over 3", "half ( x - 1 )")
 
 

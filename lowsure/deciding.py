@@ -84,10 +84,12 @@ class Seen:
     def look(self, at, point):
         """Takes in what the point with an index shows."""
         number = 0
+        place = []
         for depth, x in zip(self.loss, point):
             number = (number << depth) + (x & ((1 << depth) - 1))
+            place.append(x >> depth)
         equations = self.equations[number]
-        left = self.odd_at([x >> depth for depth, x in zip(self.loss, point)])
+        left = self.odd_at(place)
         while left != 0 and highest(left) in equations:
             left = left ^ equations[highest(left)]
         if left != 0:

@@ -15,7 +15,8 @@ def function_of(table, name):
     """A function with this name that has the values of a table with one input."""
     small = Table.of(table, table.bits, (table.least_loss(),))
     depth = small.loss[0]
-    sides = [power_coefficients(rows[0], (1 << table.bits) - 1) for rows in small.classes]
+    mask = (1 << table.bits) - 1
+    sides = [power_coefficients(coefficients[0], mask) for coefficients in small.classes]
     if depth == 0:
         return Function(name, (VALUE,), (), polynomial(sides[0], VALUE))
     variable = Name(VALUE)

@@ -14,7 +14,7 @@ from tests import plain
 
 # Losses and bits with lists of up to 400 points.
 QUESTIONS = [(loss, bits) for loss in ((0,), (1,), (2,), (3,), (5,), (0, 0), (1, 0), (0, 2), (1, 1), (2, 1), (3, 3))
-             for bits in (1, 2, 3, 4, 6, 9, 14, 23, 40, 64) if count_points(loss, bits) <= 400]
+             for bits in (1, 2, 3, 4, 6, 9, 14, 23, 47, 64) if count_points(loss, bits) <= 400]
 
 
 def binomial(z, j):
@@ -218,7 +218,9 @@ class AllFunctionsTest(Checks):
 class LimitsTest(Checks):
 
     def test_too_many(self):
-        for loss, bits in (((0,), 64), ((2,), 64), ((3,), 64), ((8,), 1), ((7,), 1), ((0, 0), 23), ((0, 0), 24), ((4, 4), 1),
+        self.assertEqual(count_points((3,), 47), 400)
+        for loss, bits in (((0,), 64), ((2,), 64), ((3,), 64), ((3,), 47), ((3,), 48), ((8,), 1), ((7,), 1),
+                           ((0, 0), 23), ((0, 0), 24), ((4, 4), 1),
                            ((4, 3), 1), ((5, 5), 2), ((6,), 4), ((6,), 3), ((6,), 8), ((16, 16), 1), ((1, 0), 15),
                            ((1, 0), 16)):
             count = count_points(loss, bits)

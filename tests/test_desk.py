@@ -50,8 +50,8 @@ class AnswersTest(Checks):
     def test_machine(self):
         desk = Desk()
         self.assertEqual(len(desk), 0)
-        for row in ("machine 4 3", "machine 64 8", "machine 16 4"):
-            self.assertEqual((desk.say(row), len(desk)), ("ready", 0))
+        for row, machine in (("machine 4 3", Machine(4, 3)), ("machine 64 8", Machine(64, 8)), ("machine 16 4", Machine(16, 4))):
+            self.assertEqual((desk.say(row), len(desk), desk.house.machine), ("ready", 0, machine))
         desk.say("edit function f x ; give x")
         self.assertEqual(len(desk), 1)
         self.assertEqual((desk.say(row="machine 8 3"), len(desk), desk.say("undo")), ("ready", 0, "nothing"))

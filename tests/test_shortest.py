@@ -311,6 +311,10 @@ class ErrorsTest(Checks):
                         self.check_error(TooMany, {"count": count}, machine, doer, bits, rows, most)
                     else:
                         self.assertIn(shortest(machine, doer, bits, rows, most), (None, Code(())))
+        # As many as there may be.
+        self.assertEqual(count_points((2,), 47), 200)
+        self.assertEqual(shortest(machine, piece("x"), 47, rows, 2), Code(()))
+        self.check_error(TooMany, {"count": count_points((2,), 49)}, machine, piece("x"), 49, rows, 2)
         # With no length and with one, there is only the code without rows.
         doer = piece("half x", "x y")
         self.assertEqual(count_points((1, 0), 9), 176)
